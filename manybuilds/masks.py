@@ -1,0 +1,88 @@
+"""Sets of settings as masks.
+
+A setting has a number: the first switch of the house adds most to it, so that
+numbers ascend in the order of settings. In a mask the bit k stands for the
+setting with the number k.
+"""
+
+
+def switch_bit(switches, s):
+    """What the switch adds to the number of a setting that has it on."""
+    return 1 << (len(switches) - 1 - switches.index(s))
+
+
+def number_of(switches, setting):
+    """The number of a setting."""
+    return sum([switch_bit(switches, s) for s in setting])
+
+
+def setting_of(switches, number):
+    """The setting with this number."""
+    return tuple([s for s in switches if number & switch_bit(switches, s)])
+
+
+def mask_of(numbers):
+    """The mask of the settings with these numbers."""
+    mask = 0
+    for number in numbers:
+        mask |= 1 << number
+    return mask
+
+
+def numbers_in(mask):
+    """The numbers of the settings of a mask, ascending."""
+    return [number for number in range(mask.bit_length()) if mask >> number & 1]
+
+
+def full_mask(switches):
+    """The mask of all settings, let or not."""
+    return (1 << (1 << len(switches))) - 1
+
+
+def switch_mask(switches, s):
+    """The mask of the settings that have the switch on."""
+    bit = switch_bit(switches, s)
+    return mask_of([number for number in range(1 << len(switches)) if number & bit])
+
+
+def cube_mask(switches, cube):
+    """The mask of the settings that lie in the cube, let or not."""
+    mask = full_mask(switches)
+    for s in cube[0]:
+        mask &= switch_mask(switches, s)
+    for s in cube[1]:
+        mask &= ~switch_mask(switches, s)
+    return mask
+
+
+def condition_mask(switches, condition):
+    """The mask of the settings for which the condition holds, let or not."""
+    tag = condition[0]
+    if tag == "yes":
+        return full_mask(switches)
+    if tag == "no":
+        return 0
+    if tag == "is":
+        return switch_mask(switches, condition[1])
+    if tag == "not":
+        return full_mask(switches) & ~condition_mask(switches, condition[1])
+    one = condition_mask(switches, condition[-2])
+    other = condition_mask(switches, condition[-1])
+    if tag == "and":
+        return one & other
+    if tag == "or":
+        return one | other
+    on = switch_mask(switches, condition[1])
+    return one & on | other & ~on
+
+
+def plain_condition(switches, mask):
+    """The plain condition that holds for just the settings of the mask."""
+    if not switches:
+        return ("yes",) if mask else ("no",)
+    half = 1 << (len(switches) - 1)
+    on = plain_condition(switches[1:], mask >> half)
+    off = plain_condition(switches[1:], mask & ((1 << half) - 1))
+    if on == off:
+        return on
+    return ("split", switches[0], on, off)

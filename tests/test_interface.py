@@ -1,0 +1,129 @@
+"""The interface: modules, names, arguments by position and by name, and what functions never do."""
+
+import copy
+import importlib
+import inspect
+import pathlib
+import unittest
+
+import manybuilds
+from tests.helpers import AB, YES, num, plus, when
+
+FOLDER = pathlib.Path(manybuilds.__file__).parent
+
+# Modules in the order of the interface, with their functions and parameters.
+MODULES = {
+    "errors": {},
+    "words": {"is_name": "thing"},
+    "conditions": {
+        "is_house": "thing", "is_setting": "house thing", "settings": "house", "is_condition": "house thing",
+        "holds": "house condition setting", "plain": "house condition", "within": "house condition",
+        "least_setting": "house condition", "how_many": "house condition", "fate": "house s"},
+    "cubes": {"reasons": "house condition", "is_reason": "house condition thing", "bans": "house condition"},
+    "lines": {
+        "is_expression": "thing", "is_line": "house thing", "build": "house line setting", "chosen": "house line cube",
+        "same_where": "house one other", "same_builds": "house one other", "builds": "house line",
+        "stands": "house line path"},
+    "running": {"run": "expression"},
+    "least": {"is_ahead": "house one other", "least": "house line"},
+    "floors": {"floor": "house line", "is_floor": "house line thing"},
+    "fewest": {"fewest_lines": "house line", "count_fewest": "house line"},
+    "moving": {"moved": "house line move", "way": "house one other"},
+    "enough": {
+        "is_enough": "house line lot", "enough_lots": "house line", "differences": "house line",
+        "least_with": "house line lot"},
+    "patching": {
+        "is_patch": "thing", "is_edit": "thing", "edited": "expression edit", "between": "one other",
+        "merge": "base one other"},
+    "telling": {
+        "is_told": "house thing", "patches": "house line told", "reach": "house line patch",
+        "offers": "house line told setting"},
+    "putting": {"least_way": "house line told", "put": "house line told condition"},
+    "merging": {"clashes": "house base one other", "merged": "house base one other"},
+}
+LINE = plus(when("a", num(1), num(2)), num(3))
+VALUES = {
+    "house": AB, "condition": ("is", "a"), "setting": ("a",), "line": LINE, "one": num(1), "other": num(1), "base": num(1),
+    "cube": (("a",), ()), "path": (1,), "expression": num(1), "move": ("double", (), "a"), "lot": ("a",), "s": "a",
+    "edit": (), "told": (), "patch": ("patch", (), num(1), num(2)), "thing": (),
+}
+
+
+def functions():
+    for name, known in MODULES.items():
+        module = importlib.import_module("manybuilds." + name)
+        for function, parameters in known.items():
+            yield name, getattr(module, function), parameters.split()
+
+
+class TestInterface(unittest.TestCase):
+    def test_functions_are_defined_in_their_files(self):
+        for name, function, _ in functions():
+            self.assertEqual(function.__module__, "manybuilds." + name)
+            self.assertTrue(inspect.isfunction(function))
+
+    def test_parameters(self):
+        for _, function, parameters in functions():
+            self.assertEqual(list(inspect.signature(function).parameters), parameters, function)
+
+    def test_by_position_and_by_name(self):
+        for _, function, parameters in functions():
+            values = [VALUES[parameter] for parameter in parameters]
+            told = function(*values)
+            self.assertEqual(function(**dict(zip(parameters, values))), told, function)
+            self.assertEqual(function(*copy.deepcopy(values)), told, function)
+
+    def test_kept_is_a_tuple(self):
+        words = importlib.import_module("manybuilds.words")
+        self.assertIs(type(words.KEPT), tuple)
+
+    def test_init_defines_nothing(self):
+        self.assertEqual((FOLDER / "__init__.py").read_text().strip(), "")
+
+    def test_modules_import_only_what_is_ahead(self):
+        order = list(MODULES)
+        for name in order:
+            for line in (FOLDER / f"{name}.py").read_text().splitlines():
+                if line.startswith("from manybuilds."):
+                    used = line.split()[1].partition(".")[2]
+                    if used in order:
+                        self.assertLess(order.index(used), order.index(name), line)
+                    else:
+                        self.assert_inner(used, order[:order.index(name)])
+
+    def assert_inner(self, name, ahead):
+        """A further module imports nothing of the interface that is not ahead."""
+        for line in (FOLDER / f"{name}.py").read_text().splitlines():
+            if line.startswith("from manybuilds."):
+                used = line.split()[1].partition(".")[2]
+                if used in MODULES:
+                    self.assertIn(used, ahead)
+
+    def test_results_are_plain(self):
+        """Results are of tuples, strings, numbers, truths and None alone."""
+        def assert_plain(thing):
+            self.assertIn(type(thing), (tuple, str, int, bool, type(None)))
+            for part in thing if isinstance(thing, tuple) else ():
+                assert_plain(part)
+        for _, function, parameters in functions():
+            assert_plain(function(*[VALUES[parameter] for parameter in parameters]))
+
+    def test_a_tuple_must_be_a_tuple(self):
+        self.assertEqual(YES, ("yes",))
+        for _, function, parameters in functions():
+            for at, parameter in enumerate(parameters):
+                value = VALUES[parameter]
+                if isinstance(value, tuple):
+                    values = [VALUES[each] for each in parameters]
+                    values[at] = list(value)
+                    kept = copy.deepcopy(values)
+                    if parameter == "thing":
+                        self.assertIs(function(*values), False)
+                    else:
+                        with self.assertRaises(ValueError):
+                            function(*values)
+                    self.assertEqual(values, kept)
+
+
+if __name__ == "__main__":
+    unittest.main()
