@@ -244,6 +244,11 @@ class TestIsFloor(unittest.TestCase):
         self.assertIs(is_floor(house, line, ((((2,), both), 1), (((), both), 1))), True)
         self.assertIs(is_floor(house, line, ((((), both), 1),)), False)
 
+    def test_lots_of_one_setting(self):
+        for path in ((), (1,), (2,)):
+            self.assertIs(is_floor(AB, TREE, (((path, (("a",),)), 1),)), False)
+            self.assertIs(is_floor(AB, TREE, (((path, (("a",),)), 0),)), True)
+
     def test_odd_house(self):
         dice = dice_of(22)
         for _ in range(20):

@@ -126,6 +126,10 @@ class TestMoved(unittest.TestCase):
             for bad in spoiled(move):
                 with self.assertRaises(BadMove):
                     moved(AB, LINE, bad)
+        # A side is "on" or "off" and nothing else, also where all settings have the switch off.
+        for bad in (("settle", (3,), "both"), ("settle", (3,), ""), ("grow", (3,), "a", "of", num(1))):
+            with self.assertRaises(BadMove):
+                moved(AB, when("a", num(0), when("a", num(1), num(2))), bad)
         good = when("a", when("a", num(1), num(1)), num(0))
         for move in (("merge", (2,)), ("settle", (2,), "on")):
             moved(AB, good, move)
