@@ -2,7 +2,7 @@
 
 from manybuilds.conditions import is_lot, judge_condition, judge_house, let_mask
 from manybuilds.errors import BadCube, TooMany
-from manybuilds.masks import condition_mask, cube_mask
+from manybuilds.masks import condition_mask, corners, cube_mask, numbers_in, setting_of, spreads
 
 MOST = 200
 
@@ -21,16 +21,6 @@ def judge_cube(house, cube):
     """Refuse what is no cube of the house."""
     if not is_cube(house, cube):
         raise BadCube("this is no cube of the house")
-
-
-def all_cubes(switches):
-    """All cubes: by how many switches they have, then on, then off, by the indexes of switches."""
-    cubes = [((), ())]
-    for s in switches:
-        with_on = [(on + (s,), off) for on, off in cubes]
-        with_off = [(on, off + (s,)) for on, off in cubes]
-        cubes = cubes + with_on + with_off
-    return sorted(cubes, key=lambda cube: cube_key(switches, cube))
 
 
 def cube_key(switches, cube):
@@ -59,17 +49,47 @@ def _is_reason(switches, let, held, cube):
     return not any(_vouches(switches, let, held, wide) for wide in wider_cubes(cube))
 
 
+def least_cubes(switches, vouching):
+    """The cubes that vouch, and cease to without any one of their switches, in order.
+
+    vouching has, by the number of each lot of switches that a cube may leave
+    free, the mask of the settings whose cubes vouch then.
+    """
+    bits = [1 << at for at in range(len(switches))]
+    found = []
+    for free, corner in enumerate(corners(switches)):
+        # One setting tells a cube: the one in which all free switches are off.
+        mask = vouching[free] & corner
+        for bit in bits:
+            if not free & bit:
+                mask &= ~vouching[free | bit]
+        found.extend([_cube_at(switches, free, number) for number in numbers_in(mask)])
+    return sorted(found, key=lambda cube: cube_key(switches, cube))
+
+
+def _cube_at(switches, free, number):
+    """The cube of all switches but the free ones in which the setting with this number lies."""
+    everything = (1 << len(switches)) - 1
+    return (setting_of(switches, number & ~free), setting_of(switches, everything & ~number & ~free))
+
+
+def _reasons(house, held):
+    """All reasons for the condition that holds for the settings of the mask, in order; TooMany."""
+    switches = house[1]
+    let = let_mask(house)
+    inside = spreads(switches, let)
+    against = spreads(switches, let & ~held)
+    found = least_cubes(switches, [one & ~other for one, other in zip(inside, against)])
+    if len(found) > MOST:
+        raise TooMany(MOST)
+    return tuple(found)
+
+
 def reasons(house, condition):
     """All reasons for the condition, in their order."""
     judge_house(house)
     judge_condition(house, condition)
-    switches = house[1]
-    let = let_mask(house)
-    held = condition_mask(switches, condition)
-    found = [cube for cube in all_cubes(switches) if _is_reason(switches, let, held, cube)]
-    if len(found) > MOST:
-        raise TooMany(MOST)
-    return tuple(found)
+    return _reasons(house, condition_mask(house[1], condition))
 
 
 def is_reason(house, condition, thing):
@@ -85,4 +105,4 @@ def bans(house, condition):
     """All reasons for the opposite of the condition."""
     judge_house(house)
     judge_condition(house, condition)
-    return reasons(house, ("not", condition))
+    return _reasons(house, ~condition_mask(house[1], condition))

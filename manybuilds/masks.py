@@ -39,10 +39,35 @@ def full_mask(switches):
     return (1 << (1 << len(switches))) - 1
 
 
+def off_mask(switches, bit):
+    """The mask of the settings whose numbers lack the bit of a switch."""
+    # Runs of settings without and with the bit take turns, each as long as the bit tells.
+    return full_mask(switches) // ((1 << bit) + 1)
+
+
 def switch_mask(switches, s):
     """The mask of the settings that have the switch on."""
     bit = switch_bit(switches, s)
-    return mask_of([number for number in range(1 << len(switches)) if number & bit])
+    return off_mask(switches, bit) << bit
+
+
+def spreads(switches, mask):
+    """By the number of each lot of switches: the settings that are like one of the mask but for the lot."""
+    known = [mask]
+    for at in range(len(switches)):
+        bit = 1 << at
+        off = off_mask(switches, bit)
+        known = known + [inner | inner >> bit & off | (inner & off) << bit for inner in known]
+    return known
+
+
+def corners(switches):
+    """By the number of each lot of switches: the settings that have all of the lot off."""
+    known = [full_mask(switches)]
+    for at in range(len(switches)):
+        off = off_mask(switches, 1 << at)
+        known = known + [inner & off for inner in known]
+    return known
 
 
 def cube_mask(switches, cube):
@@ -78,8 +103,10 @@ def condition_mask(switches, condition):
 
 def plain_condition(switches, mask):
     """The plain condition that holds for just the settings of the mask."""
-    if not switches:
-        return ("yes",) if mask else ("no",)
+    if mask == 0:
+        return ("no",)
+    if mask == full_mask(switches):
+        return ("yes",)
     half = 1 << (len(switches) - 1)
     on = plain_condition(switches[1:], mask >> half)
     off = plain_condition(switches[1:], mask & ((1 << half) - 1))

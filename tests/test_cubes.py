@@ -1,8 +1,10 @@
 """Point 8: cubes, reasons and bans."""
 
 import itertools
+import time
 import unittest
 
+from manybuilds.conditions import plain
 from manybuilds.cubes import bans, is_reason, reasons
 from manybuilds.errors import BadCondition, BadHouse, TooMany
 from tests.helpers import (
@@ -154,6 +156,38 @@ class TestCubes(unittest.TestCase):
         some = [cube for cube in slow_cubes(switches) if len(cube[0]) == 2 and len(cube[1]) == 2]
         self.assertEqual(len(some), 210)
         self.assertTrue(all(is_reason(SEVEN, middle, cube) for cube in some))
+
+    def test_of_seven_switches_from_one_to_four_on(self):
+        switches = SEVEN[1]
+        some = plain(SEVEN, ("and", at_least(switches, 1), ("not", at_least(switches, 5))))
+        self.assertEqual(len(reasons(SEVEN, some)), 140)
+        self.assertEqual(len(bans(SEVEN, some)), 22)
+        self.assertEqual(reasons(SEVEN, some), slow_reasons(SEVEN, some))
+        self.assertEqual(bans(SEVEN, some), slow_reasons(SEVEN, ("not", some)))
+        fewer = plain(SEVEN, ("and", at_least(switches, 2), ("not", at_least(switches, 5))))
+        for function, condition in ((reasons, fewer), (bans, ("not", fewer))):
+            with self.assertRaises(TooMany) as caught:
+                function(SEVEN, condition)
+            self.assertEqual(caught.exception.most, 200)
+        self.assertEqual(len(bans(SEVEN, fewer)), 28)
+        self.assertEqual(sum(is_reason(SEVEN, fewer, cube) for cube in slow_cubes(switches)), 210)
+
+    def test_many_in_a_row(self):
+        """A house of seven switches takes no more than a small part of a second."""
+        dice = dice_of(8)
+        asked = 0
+        start = time.process_time()
+        for _ in range(150):
+            house = random_house(dice, 7)
+            condition = random_condition(dice, house[1], 9)
+            for function in (reasons, bans):
+                try:
+                    asked += len(function(house, condition)) >= 0
+                except TooMany:
+                    asked += 1
+        self.assertEqual(asked, 300)
+        # They take about a fifth of a second; when each cube was tried by itself they took 20 seconds.
+        self.assertLess(time.process_time() - start, 6)
 
     def test_too_many_is_behind_all_other_errors(self):
         middle = ("and", at_least(SEVEN[1], 2), ("not", at_least(SEVEN[1], 6)))
