@@ -10,7 +10,7 @@ from manybuilds.masks import number_of, setting_of
 from manybuilds.searching import least_line
 
 
-def _all_lots(switches):
+def all_lots(switches):
     """All lots of switches: fewer switches first, then ascending by indexes."""
     lots = []
     for size in range(len(switches) + 1):
@@ -64,7 +64,7 @@ def enough_lots(house, line):
     judge_house(house)
     judge_line(house, line)
     unlike = _unlike(house, line)
-    return _least_lots([lot for lot in _all_lots(house[1]) if _shares(house, lot, unlike)])
+    return _least_lots([lot for lot in all_lots(house[1]) if _shares(house, lot, unlike)])
 
 
 def differences(house, line):
@@ -72,7 +72,7 @@ def differences(house, line):
     judge_house(house)
     judge_line(house, line)
     unlike = _unlike(house, line)
-    return _least_lots([lot for lot in _all_lots(house[1]) if number_of(house[1], lot) in unlike])
+    return _least_lots([lot for lot in all_lots(house[1]) if number_of(house[1], lot) in unlike])
 
 
 def least_with(house, line, lot):

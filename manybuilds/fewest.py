@@ -18,11 +18,17 @@ class Census:
 
     def __init__(self, search):
         self.search = search
+        self.known_steps = {}
         self.counts = {}
         self.lists = {}
 
     def fewest_steps(self, task):
         """The first steps of the lines with the fewest choices."""
+        if task not in self.known_steps:
+            self.known_steps[task] = self._fewest_steps(task)
+        return self.known_steps[task]
+
+    def _fewest_steps(self, task):
         fewest = self.search.best(task)[0]
         steps = []
         for label, tasks in self.search.steps(task):

@@ -296,3 +296,236 @@ def changed(dice, tree, chance=0.3):
 
 def dice_of(seed):
     return random.Random(seed)
+
+
+def slow_fewest(switches, trees):
+    """All lines with these builds by setting that have as few choices as can be."""
+    most = 0
+    while True:
+        found = slow_lines(switches, trees, most)
+        if found:
+            return sorted(set(found), key=repr)
+        most += 1
+
+
+def slow_first(house, trees):
+    """The line ahead of all others with these builds by setting."""
+    if not trees:
+        return num(0)
+    first, *others = slow_fewest(house[1], trees)
+    for line in others:
+        if slow_ahead(house, line, first):
+            first = line
+    return first
+
+
+def slow_condition_text(condition):
+    tag = condition[0]
+    if tag in ("yes", "no"):
+        return tag
+    if tag == "is":
+        return condition[1]
+    parts = [slow_condition_text(part) for part in condition[1:] if isinstance(part, tuple)]
+    if tag == "not":
+        return "not " + parts[0]
+    if tag == "split":
+        return f"when {condition[1]} take {parts[0]} otherwise {parts[1]}"
+    return "{} {} {} {}".format(*(("both", parts[0], "and", parts[1]) if tag == "and" else ("either", parts[0], "or", parts[1])))
+
+
+def slow_condition(switches, words):
+    """The condition that all the words tell, read from the left by its parts; None if they tell none."""
+    def read(at):
+        word = words[at]
+        if word in ("yes", "no"):
+            return (word,), at + 1
+        if word in switches:
+            return ("is", word), at + 1
+        if word == "not":
+            part, at = read(at + 1)
+            return ("not", part), at
+        if word == "when":
+            if words[at + 1] not in switches or words[at + 2] != "take":
+                raise IndexError
+            one, behind = read(at + 3)
+            if words[behind] != "otherwise":
+                raise IndexError
+            other, end = read(behind + 1)
+            return ("split", words[at + 1], one, other), end
+        tag, joint = {"both": ("and", "and"), "either": ("or", "or")}.get(word, (None, None))
+        if tag is None:
+            raise IndexError
+        one, behind = read(at + 1)
+        if words[behind] != joint:
+            raise IndexError
+        other, end = read(behind + 1)
+        return (tag, one, other), end
+    try:
+        condition, end = read(0)
+    except IndexError:
+        return None
+    return condition if end == len(words) else None
+
+
+def slow_told(house, text):
+    """The told words, each with the conditions around it and whether each must hold; None if the text has bad forks."""
+    told, around = [], []
+    for row in text.split("\n"):
+        words = row.split()
+        if words[:1] == ["only"]:
+            condition = slow_condition(house[1], words[1:])
+            if condition is None:
+                return None
+            around.append((condition, True))
+        elif words == ["other"] and around and around[-1][1]:
+            around[-1] = (around[-1][0], False)
+        elif words == ["over"] and around:
+            around.pop()
+        elif words[:1] in (["other"], ["over"]):
+            return None
+        else:
+            told += [(word, tuple(around)) for word in words]
+    return None if around else told
+
+
+def slow_where(told, setting):
+    """The pairs of an index and a word that stand for the setting."""
+    return [(at, word) for at, (word, around) in enumerate(told)
+            if all(slow_holds(condition, setting) is is_first for condition, is_first in around)]
+
+
+def slow_line_rows(line):
+    """The words of a line in rows, each choice as a fork."""
+    tag = line[0]
+    if tag == "choice":
+        return ["only " + line[1]] + slow_line_rows(line[2]) + ["other"] + slow_line_rows(line[3]) + ["over"]
+    if tag in ("number", "truth", "name"):
+        return [str(line[1])]
+    head = {"let": f"let {line[1]}:", "set": f"set {line[1]}:", "then": "first"}.get(tag, tag)
+    joints = {"let": "in", "plus": "with", "less": "than", "then": "next"}
+    rows = [head]
+    for at, part in enumerate(slow_parts(line)):
+        if at:
+            rows.append(joints[tag] if tag in joints else ("then", "else")[at - 1])
+        rows += slow_line_rows(part)
+    return rows
+
+
+def slow_read(words):
+    """The expression that the words tell, or the pair of the index where they fail and the want there."""
+    def fail(at, want):
+        raise LookupError(at, want)
+
+    def want(at, word):
+        if at == len(words) or words[at] != word:
+            fail(at, word)
+        return at + 1
+
+    def name(at):
+        if at == len(words) or words[at][-1] != ":" or not is_plain_name(words[at][:-1]):
+            fail(at, "a name")
+        return words[at][:-1], at + 1
+
+    def read(at):
+        word = words[at] if at < len(words) else None
+        if word is None:
+            fail(at, "an expression")
+        if word.isdigit() and str(int(word)) == word and int(word) <= 999:
+            return num(int(word)), at + 1
+        if word in ("yes", "no"):
+            return ("truth", word), at + 1
+        if is_plain_name(word):
+            return ("name", word), at + 1
+        if word == "show":
+            part, at = read(at + 1)
+            return ("show", part), at
+        if word == "set":
+            x, at = name(at + 1)
+            part, at = read(at)
+            return ("set", x, part), at
+        if word == "let":
+            x, at = name(at + 1)
+            one, at = read(at)
+            other, at = read(want(at, "in"))
+            return ("let", x, one, other), at
+        if word == "if":
+            one, at = read(at + 1)
+            other, at = read(want(at, "then"))
+            third, at = read(want(at, "else"))
+            return ("if", one, other, third), at
+        if word not in ("plus", "less", "first"):
+            fail(at, "an expression")
+        one, at = read(at + 1)
+        other, at = read(want(at, {"plus": "with", "less": "than", "first": "next"}[word]))
+        return ("then" if word == "first" else word, one, other), at
+    try:
+        tree, end = read(0)
+    except LookupError as error:
+        return error.args
+    return tree if end == len(words) else (end, "the end")
+
+
+KEPT_WORDS = (
+    "and both choice either else first house if in is less let name next no not number only or other otherwise over plus "
+    "rule set show split switches take than then truth when with yes").split()
+
+
+def is_plain_name(word):
+    return 1 <= len(word) <= 8 and all(letter in "abcdefghijklmnopqrstuvwxyz" for letter in word) and word not in KEPT_WORDS
+
+
+def is_read(words):
+    """Whether slow_read tells an expression."""
+    return isinstance(slow_read(words)[0], str)
+
+
+WORDS = ("0", "7", "x", "x:", "yes", "in", "with", "than", "then", "else", "next", "let", "set", "plus", "less", "if",
+         "show", "first", "or")
+
+
+def random_words(dice, many, line=None):
+    """Some words, mostly out of those of a line."""
+    words = " ".join(slow_line_rows(line)).split() if line else []
+    if len(words) > many:
+        at = dice.randint(0, len(words) - many)
+        words = words[at:at + many]
+    words = [dice.choice(WORDS) if dice.random() < 0.05 else word for word in words]
+    while len(words) < many and dice.random() < 0.8:
+        words.insert(dice.randint(0, len(words)), dice.choice(WORDS))
+    return words
+
+
+def random_text(dice, house, many, forks, line=None):
+    """A text of forks with some words, cut into rows and cut through by forks anywhere."""
+    switches = house[1]
+
+    def rows(words, left):
+        if not left or dice.random() < 0.2:
+            cut = dice.randint(0, len(words))
+            parts = [words[:cut], words[cut:]] if dice.random() < 0.5 else [words]
+            return [dice.choice(("", " ", "  ")) + dice.choice((" ", "  ")).join(part) for part in parts]
+        ends = sorted(dice.randint(0, len(words)) for _ in range(3))
+        one, other, third, fourth = [words[a:b] for a, b in zip([0] + ends, ends + [len(words)])]
+        inner = left - 1
+        shares = sorted(dice.randint(0, inner) for _ in range(3))
+        told = rows(one, shares[0]) if one or shares[0] else []
+        condition = random_condition(dice, switches, dice.randint(1, 4))
+        told.append(dice.choice(("", " ")) + "only " + slow_condition_text(condition) + dice.choice(("", "  ")))
+        told += rows(other, shares[1] - shares[0])
+        if dice.random() < 0.6:
+            told += ["other"] + (rows(third, shares[2] - shares[1]) if third else [])
+        told.append("over ")
+        return told + (rows(fourth, inner - shares[2]) if fourth or inner - shares[2] else [])
+    words = random_words(dice, many, line)
+    return "\n".join(rows(words, forks))
+
+
+def line_text(dice, house, line):
+    """A text of a line, at times with a few of its rows taken away, doubled or exchanged."""
+    told = slow_line_rows(line)
+    for _ in range(dice.choice((0, 0, 0, 1, 2))):
+        plain_rows = [at for at, row in enumerate(told) if row.split()[:1] not in (["only"], ["other"], ["over"])]
+        if plain_rows:
+            at = dice.choice(plain_rows)
+            told[at] = dice.choice(("", dice.choice(WORDS), told[at] + " " + told[at]))
+    return "\n".join(told)

@@ -22,7 +22,7 @@ BARRED = set(
     "credits delattr dir eval exec exit gc globals help id importlib license locals methodcaller os quit vars sys".split())
 STATEMENTS = (
     ast.Assign, ast.AugAssign, ast.If, ast.While, ast.For, ast.Return, ast.Break, ast.Continue, ast.Raise, ast.Expr,
-    ast.FunctionDef, ast.ClassDef, ast.ImportFrom)
+    ast.Delete, ast.Try, ast.FunctionDef, ast.ClassDef, ast.ImportFrom)
 BARRED_WORDS = re.compile(
     r"\b(type|typing|enum|Enum|Generic|Protocol|ABC|namedtuple|NamedTuple|TypedDict)\b|dataclass|overload|contextmanager")
 ITERATED = {"zip", "enumerate", "reversed", "range"}
@@ -131,7 +131,12 @@ class TestLanguage(unittest.TestCase):
                 if not name.startswith("__"):
                     self.assertFalse(hasattr(builtins, name), (path, name))
                     self.assertRegex(name, r"^_?[A-Za-z][A-Za-z0-9_]*$|^_$")
-            known = imported | bound | assigned
+            handlers = [node for node in ast.walk(tree) if isinstance(node, ast.ExceptHandler)]
+            caught = {node.name for node in handlers if node.name}
+            self.assertFalse(caught & (imported | bound | assigned), path)
+            for node in handlers:
+                self.assertIn(node.type.id, imported, (path, node.lineno))
+            known = imported | bound | assigned | caught
             for node in ast.walk(tree):
                 if isinstance(node, ast.Name) and isinstance(node.ctx, ast.Load) and node.id not in known:
                     self.assertIn(node.id, BUILTINS, (path, node.lineno))
@@ -162,6 +167,9 @@ class TestLanguage(unittest.TestCase):
                 if isinstance(node, ast.Call) and isinstance(node.func, ast.Name) and node.args:
                     if node.func.id in BUILTINS - {"set", "len", "reversed"}:
                         allowed.add(id(node.args[0]))
+                    if node.func.id == "reversed" and isinstance(node.args[0], ast.Call):
+                        if isinstance(node.args[0].func, ast.Name) and node.args[0].func.id == "range":
+                            allowed.add(id(node.args[0]))
             for node in ast.walk(tree):
                 if isinstance(node, ast.Call) and isinstance(node.func, ast.Name) and node.func.id in ITERATED:
                     self.assertIn(id(node), allowed, (path, node.lineno))
