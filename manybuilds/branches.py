@@ -6,9 +6,10 @@ from manybuilds.forks import forked
 
 
 def _let_rows(house, text):
-    """The words of each row, and the let settings for which they stand."""
+    """The words of each row, and the let settings for which they stand, of values that are not yet judged."""
+    rows = forked(house, text).standing()
     let = let_mask(house)
-    return [(words, mask & let) for words, mask in forked(house, text).standing()]
+    return [(words, mask & let) for words, mask in rows]
 
 
 def fewest_branches(house, text):

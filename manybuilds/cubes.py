@@ -69,8 +69,7 @@ def least_cubes(switches, vouching):
 
 def _cube_at(switches, free, number):
     """The cube of all switches but the free ones in which the setting with this number lies."""
-    everything = (1 << len(switches)) - 1
-    return (setting_of(switches, number & ~free), setting_of(switches, everything & ~number & ~free))
+    return (setting_of(switches, number & ~free), setting_of(switches, ~number & ~free))
 
 
 def _reasons(house, held):

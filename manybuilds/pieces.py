@@ -119,8 +119,8 @@ def words_to(wants):
     joints = wants[len(head)::2]
     words = []
     for at in reversed(range(len(joints))):
-        # One "if" leaves both joints, so behind "then" the "else" needs no words of its own.
-        if joints[at] != "else" or joints[at - 1:at] != ("then",):
+        # One "if" leaves both joints, so the "else" behind a "then" needs no words of its own.
+        if joints[at - 1:at] != ("then",):
             words.extend(OPENING[joints[at]])
     if head == (NAME, EXPRESSION):
         return words[:-1] if joints[:1] == ("in",) else words + ["set"]

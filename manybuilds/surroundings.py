@@ -50,7 +50,7 @@ def parting(house, one, other):
     for mine, mask in _act_masks(rows, let).items():
         for yours, other_mask in others.items():
             common = numbers_in(mask & other_mask)
-            if common and mine != yours:
+            if common:
                 around = [_around(mine, yours), _around(yours, mine)]
                 ways.extend([(words, common[0]) for words in around if words is not None])
     if not ways:

@@ -173,6 +173,18 @@ class TestParting(unittest.TestCase):
                         self.assertEqual(is_read(list(row[:at]) + one.split() + list(row[at:])),
                                          is_read(list(row[:at]) + other.split() + list(row[at:])))
 
+    def test_what_one_does_where_the_other_does_it_too(self):
+        """The longer one needs more, and leaves as much more: just where it cannot stand are they unlike."""
+        for one, other in (("3", "3 with plus 4"), ("", "with plus 4"), ("show", "3 in let x: 1"), ("x: 3", "x: 3 than less 4"),
+                           ("with", "with 3 next first 1"), ("then", "then 3 else 4 in let x: if"), ("plus", "3 with plus")):
+            for pair in ((one, other), (other, one)):
+                many = self.assert_parts(AB, *pair, parting(AB, *pair))
+                for fewer in range(min(many, 4)):
+                    for row in itertools.product(("0", "x:", "in", "with", "than", "next", "if", "plus", "let", "first"), repeat=fewer):
+                        for at in range(fewer + 1):
+                            self.assertEqual(is_read(list(row[:at]) + one.split() + list(row[at:])),
+                                             is_read(list(row[:at]) + other.split() + list(row[at:])))
+
     def test_one_of_several_settings(self):
         """The setting for which the fewest words are enough is told."""
         one = "only a\nwith\nother\n1\nover"
