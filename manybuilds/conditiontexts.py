@@ -11,10 +11,10 @@ SWITCH = "a switch"
 BEHIND = {
     "yes": (),
     "no": (),
-    "not": (CONDITION,),
-    "both": (CONDITION, "and", CONDITION),
-    "either": (CONDITION, "or", CONDITION),
-    "when": (SWITCH, "take", CONDITION, "otherwise", CONDITION),
+    "not": ("a condition",),
+    "both": ("a condition", "and", "a condition"),
+    "either": ("a condition", "or", "a condition"),
+    "when": ("a switch", "take", "a condition", "otherwise", "a condition"),
 }
 
 # The label and the number of parts of the condition that the word begins; that of "when" comes with its switch.

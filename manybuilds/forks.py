@@ -103,11 +103,8 @@ def told_words(house, text):
     """The told words, each with the condition for which it stands."""
     rows = forked(house, text).standing()
     let = let_mask(house)
-    pairs = []
-    for words, mask in rows:
-        condition = plain_condition(house[1], mask & let)
-        pairs.extend([(word, condition) for word in words])
-    return tuple(pairs)
+    conditions = {mask: plain_condition(house[1], mask & let) for mask in sorted({row[1]: True for row in rows})}
+    return tuple([(word, conditions[mask]) for words, mask in rows for word in words])
 
 
 def words_where(house, text, setting):

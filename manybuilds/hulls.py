@@ -5,8 +5,7 @@ from manybuilds.masks import full_mask, switch_mask
 
 PAIRS = "pairs"
 NEEDS = "needs"
-SUMS = "sums"
-FORMS = (PAIRS, NEEDS, SUMS)
+FORMS = ("pairs", "needs", "sums")
 
 
 def _side_masks(switches):

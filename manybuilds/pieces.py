@@ -13,8 +13,8 @@ OPENING = {
     "else": ("if", "0", "then"), "next": ("first",),
 }
 
-LAST_OF_IF = ("else", EXPRESSION)
-REST_OF_IF = ("then", EXPRESSION, "else", EXPRESSION)
+LAST_OF_IF = ("else", "an expression")
+REST_OF_IF = ("then", "an expression", "else", "an expression")
 
 
 def _head(wants):

@@ -11,13 +11,13 @@ JOINTS = ("in", "with", "than", "then", "else", "next")
 
 # What is due in the place of an expression behind its first word.
 BEHIND = {
-    "let": (NAME, EXPRESSION, "in", EXPRESSION),
-    "set": (NAME, EXPRESSION),
-    "plus": (EXPRESSION, "with", EXPRESSION),
-    "less": (EXPRESSION, "than", EXPRESSION),
-    "if": (EXPRESSION, "then", EXPRESSION, "else", EXPRESSION),
-    "show": (EXPRESSION,),
-    "first": (EXPRESSION, "next", EXPRESSION),
+    "let": ("a name", "an expression", "in", "an expression"),
+    "set": ("a name", "an expression"),
+    "plus": ("an expression", "with", "an expression"),
+    "less": ("an expression", "than", "an expression"),
+    "if": ("an expression", "then", "an expression", "else", "an expression"),
+    "show": ("an expression",),
+    "first": ("an expression", "next", "an expression"),
 }
 
 # The label and the number of parts of the node that the word begins; for let and set the name is lacking.

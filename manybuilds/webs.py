@@ -7,18 +7,16 @@ from manybuilds.trees import FIRST, is_number, part_indexes
 NUMBER = 0
 TRUTH = 1
 
-OWN = "own"
-
-# What each part of a node is tied with, by the tag of the node: OWN is the node itself.
+# What each part of a node is tied with, by the tag of the node: "own" is the node itself.
 PART_TIES = {
     "plus": ("number", "number"),
     "less": ("number", "number"),
-    "if": ("truth", OWN, OWN),
-    "let": (None, OWN),
-    "set": (OWN,),
-    "show": (OWN,),
-    "then": (None, OWN),
-    "choice": (OWN, OWN),
+    "if": ("truth", "own", "own"),
+    "let": (None, "own"),
+    "set": ("own",),
+    "show": ("own",),
+    "then": (None, "own"),
+    "choice": ("own", "own"),
 }
 
 # What a node itself is tied with, by its tag.
@@ -59,7 +57,7 @@ class Web:
             part_mask = self._part_mask(node, at, mask)
             other = PART_TIES[tag][at]
             if other is not None:
-                rows.append((path, index, inner, path if other == OWN else other, part_mask))
+                rows.append((path, index, inner, path if other == "own" else other, part_mask))
             inner_lets = lets
             if tag == "let" and at == 1:
                 inner_lets = {**lets, node[1]: path + (FIRST[tag],)}

@@ -116,7 +116,8 @@ class TestLanguage(unittest.TestCase):
             for node in tree.body:
                 self.assertNotIsInstance(node, (ast.If, ast.While, ast.For, ast.AugAssign))
                 if isinstance(node, ast.Assign):
-                    self.assertFalse([each for each in ast.walk(node.value) if isinstance(each, (ast.Call, ast.ListComp))])
+                    for each in ast.walk(node.value):
+                        self.assertIsInstance(each, (ast.Constant, ast.Tuple, ast.List, ast.Dict, ast.Load), (path, node.lineno))
 
     def test_names_and_builtins(self):
         for path, tree in trees():

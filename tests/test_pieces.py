@@ -255,9 +255,8 @@ class TestLeastWords(unittest.TestCase):
                     for at in range(len(words)):
                         self.assertNotEqual(act(" ".join(words[:at] + words[at + 1:])), (needs, leaves))
 
-    def test_all_rows_of_few_kinds_of_words(self):
-        """Rows of up to six words of an if and its parts, where the last words may leave what is due."""
-        kinds = ("0", "then", "else", "if", "show")
+    def assert_shortest(self, kinds):
+        """Each act of rows of up to six words of these kinds, with the number of words of the shortest one."""
         shortest = {}
         for many in range(7):
             for words in itertools.product(kinds, repeat=many):
@@ -267,16 +266,12 @@ class TestLeastWords(unittest.TestCase):
         for known, many in shortest.items():
             self.assertEqual(len(least_words(known).split()), many, known)
 
+    def test_rows_of_an_if(self):
+        """The last words may leave what is due there as it is."""
+        self.assert_shortest(("0", "then", "else", "if", "show"))
+
     def test_rows_of_names(self):
-        kinds = ("0", "x:", "let", "set", "in", "show")
-        shortest = {}
-        for many in range(7):
-            for words in itertools.product(kinds, repeat=many):
-                known = act(" ".join(words))
-                if known is not None:
-                    shortest.setdefault(known, many)
-        for known, many in shortest.items():
-            self.assertEqual(len(least_words(known).split()), many, known)
+        self.assert_shortest(("0", "x:", "let", "set", "in", "show"))
 
     def test_none(self):
         text = least_words(None)
