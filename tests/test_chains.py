@@ -172,7 +172,7 @@ class TestIsChain(unittest.TestCase):
                     expected = slow_is_chain(common, thing)
                     self.assertIs(is_chain(house, line, cube, thing), expected)
                     counts[expected] += 1
-        self.assertGreater(min(counts), 100)
+        self.assertGreater(min(counts), 30)
 
     def test_longer_chains(self):
         # Over the number of its own a chain would come back to "number".

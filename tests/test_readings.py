@@ -124,8 +124,8 @@ class TestReadingAgainstSlow(unittest.TestCase):
                 assert_told(self, house, condition, [s for s, outcome in expected.items() if outcome == (at, want)])
             goods += len(trees)
             bads += len(expected) - len(trees)
-        self.assertGreater(goods, 400)
-        self.assertGreater(bads, 400)
+        self.assertGreater(goods, 150)
+        self.assertGreater(bads, 150)
 
     def test_the_least_line_by_a_search_of_its_own(self):
         for house, text, _ in texts(82, 3, SMALL):
@@ -220,7 +220,7 @@ class TestDue(unittest.TestCase):
 
     def test_due_alike_exactly_if_further_words_are_read_alike(self):
         further = [" ".join(words) for many in range(5) for words in itertools.product(
-            ("1", "x:", "with", "in", "else", "next", "then"), repeat=many)]
+            ("1", "x:", "with", "than", "in", "else", "next", "then"), repeat=many)]
         dice = dice_of(86)
         for _ in range(60):
             text = random_text(dice, AB, dice.randint(1, 4), dice.randint(1, 3), random_line(dice, (), 4))
