@@ -4,7 +4,7 @@ from manybuilds.conditions import judge_house, judge_setting, let_mask, let_numb
 from manybuilds.cubes import judge_cube
 from manybuilds.errors import BadExpression, BadLine, BadPath
 from manybuilds.forest import Forest
-from manybuilds.masks import plain_condition, switch_mask
+from manybuilds.masks import plain_condition, switch_bit, switch_mask
 from manybuilds.trees import is_part_index, is_tree, label_of, parts_of
 
 
@@ -43,6 +43,19 @@ def made(line, on, off):
 def built(house, line, setting):
     """The build for the setting, of what was judged."""
     return made(line, setting, [s for s in house[1] if s not in setting])
+
+
+def decided(switches, trees):
+    """A line whose build is, for each setting with one of these numbers, the tree that the dict has for it."""
+    known = list(trees.values())
+    if known.count(known[0]) == len(known):
+        return known[0]
+    bit = switch_bit(switches, switches[0])
+    ons = {number ^ bit: tree for number, tree in trees.items() if number & bit}
+    offs = {number: tree for number, tree in trees.items() if not number & bit}
+    if not ons or not offs:
+        return decided(switches[1:], ons or offs)
+    return ("choice", switches[0], decided(switches[1:], ons), decided(switches[1:], offs))
 
 
 def build(house, line, setting):

@@ -113,3 +113,9 @@ def plain_condition(switches, mask):
     if on == off:
         return on
     return ("split", switches[0], on, off)
+
+
+def put_mask(masks, key, mask):
+    """Add the settings of the mask to those that the dict has by the key, if there are some."""
+    if mask:
+        masks[key] = masks.get(key, 0) | mask

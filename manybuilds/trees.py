@@ -88,6 +88,11 @@ def with_node(line, path, node):
     return line[:index] + (with_node(line[index], path[1:], node),) + line[index + 1:]
 
 
+def count_nodes(line):
+    """How many nodes the line has."""
+    return 1 + sum([count_nodes(part) for part in parts_of(line)])
+
+
 def label_key(switches, label):
     """The key by which labels are put in order."""
     rank = ORDER.index(label[0])

@@ -14,3 +14,13 @@ def is_name(thing):
     if not isinstance(thing, str) or not 1 <= len(thing) <= 8:
         return False
     return all(letter in LETTERS for letter in thing) and thing not in KEPT
+
+
+def fresh_names(taken, many):
+    """The first names, by length and then by letters, that are none of those taken."""
+    found = []
+    longer = [""]
+    while len(found) < many:
+        longer = [name + letter for name in longer for letter in LETTERS]
+        found.extend([name for name in longer if name not in KEPT and name not in taken])
+    return found[:many]

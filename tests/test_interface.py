@@ -63,20 +63,34 @@ MODULES = {
         "is_row": "house form thing", "keeps": "house form row setting", "hull": "house condition form",
         "rows_for": "house condition form", "told_by": "house condition form",
         "is_told_by": "house condition form thing", "further_rule": "house line form"},
+    "parts": {"is_part": "house thing", "link_errors": "house parts", "right_where": "house parts"},
+    "interfaces": {"interface": "house part", "is_interface": "house thing", "part_with": "house interface"},
+    "composing": {"right_by": "house interfaces", "put_together": "house interfaces", "together": "house parts"},
+    "replacing": {
+        "may_replace": "house one other", "telling": "house one other", "is_telling": "house one other thing"},
+    "linking": {"linked_build": "house parts setting x", "linked": "house parts x"},
+    "books": {"book": "house line", "shows": "house line", "shows_where": "house one other"},
+    "feeling": {"felt": "house line", "felt_by": "house line setting"},
+    "askings": {"is_asking": "house line thing", "least_askings": "house line", "asking": "house line"},
 }
 LINE = plus(when("a", num(1), num(2)), num(3))
+PART = ("part", (("give", "x", YES, plus(("name", "y"), num(1))), ("keep", "z", ("is", "a"), num(2))))
+GIVER = ("part", (("give", "y", YES, num(3)),))
+FACE = ("interface", ("no",), (("y", YES),), (), (), (("number", ("give", "y"), YES),))
 VALUES = {
     "house": AB, "condition": ("is", "a"), "setting": ("a",), "line": LINE, "one": num(1), "other": num(1), "base": num(1),
     "cube": (("a",), ()), "path": (1,), "expression": num(1), "move": ("double", (), "a"), "lot": ("a",), "s": "a",
     "edit": (), "told": (), "patch": ("patch", (), num(1), num(2)), "thing": (), "part": num(2), "at": 1, "fork": 1,
     "copies": (((), num(1)), (("b",), num(1)), (("a",), num(2))), "text": "show\nonly a\n1\nother\n2\nover", "most": 1,
-    "form": "needs", "row": ("need", ("a",), "b"),
+    "form": "needs", "row": ("need", ("a",), "b"), "parts": (PART, GIVER), "interfaces": (FACE,), "interface": FACE, "x": "x",
 }
 # What a function takes by a name of VALUES that stands for something else with it.
 OTHERS = {
     "teaches": {"lot": (("a",),)}, "freed_text": {"lot": (1,)}, "condition_of": {"text": "not a"},
     "read_page": {"text": "switches a b\nrule yes\n1"}, "parting": {"one": "show", "other": "1"},
     "behind": {"one": ((), ()), "other": ((), ())}, "least_words": {"thing": ((), ())},
+    "interface": {"part": PART}, "may_replace": {"one": PART, "other": GIVER}, "telling": {"one": PART, "other": GIVER},
+    "is_telling": {"one": PART, "other": GIVER},
     "joined_where": {"one": (1,), "other": ()}, "chain": {"line": plus(when("a", ("truth", "yes"), num(2)), num(3))},
 }
 

@@ -113,11 +113,16 @@ class TestLanguage(unittest.TestCase):
                     self.assertNotIsInstance(node.value, (float, complex))
                 if isinstance(node, ast.Constant) and isinstance(node.value, str):
                     self.assertNotIn("%", node.value)
+            above = set()
             for node in tree.body:
                 self.assertNotIsInstance(node, (ast.If, ast.While, ast.For, ast.AugAssign))
+                if isinstance(node, ast.FunctionDef):
+                    above.add(node.name)
                 if isinstance(node, ast.Assign):
                     for each in ast.walk(node.value):
-                        self.assertIsInstance(each, (ast.Constant, ast.Tuple, ast.List, ast.Dict, ast.Load), (path, node.lineno))
+                        if not isinstance(each, ast.Name) or each.id not in above:
+                            self.assertIsInstance(
+                                each, (ast.Constant, ast.Tuple, ast.List, ast.Dict, ast.Load), (path, node.lineno))
 
     def test_names_and_builtins(self):
         for path, tree in trees():
