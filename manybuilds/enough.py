@@ -18,10 +18,8 @@ def all_lots(switches):
     return lots
 
 
-def _unlike(house, line):
-    """For each lot of all switches at which two let settings with unlike builds are unlike its number."""
-    numbers = let_numbers(house)
-    row = Forest().built(house[1], line, numbers)
+def unlike_numbers(numbers, row):
+    """The numbers of the lots of all switches at which two of the settings with unlike things in the row are unlike."""
     unlike = {}
     for place, one in enumerate(numbers):
         for other_place in range(place):
@@ -30,13 +28,19 @@ def _unlike(house, line):
     return list(unlike)
 
 
+def _unlike(house, line):
+    """The same for all let settings and their builds."""
+    numbers = let_numbers(house)
+    return unlike_numbers(numbers, Forest().built(house[1], line, numbers))
+
+
 def judge_lot(house, lot):
     """Refuse what is no lot of switches."""
     if not is_lot(house[1], lot):
         raise BadLot("this is no lot of switches in the order of the house")
 
 
-def _shares(house, lot, unlike):
+def shares(house, lot, unlike):
     """Whether the lot has a switch of each of the lots that are told by their numbers."""
     bits = number_of(house[1], lot)
     return all(bits & other != 0 for other in unlike)
@@ -47,32 +51,40 @@ def is_enough(house, line, lot):
     judge_house(house)
     judge_line(house, line)
     judge_lot(house, lot)
-    return _shares(house, lot, _unlike(house, line))
+    return shares(house, lot, _unlike(house, line))
 
 
 def _least_lots(lots):
-    """The lots that have no other one of these within."""
-    least_lots = []
+    """The lots that have no other one of these within; those with fewer switches come first."""
+    known = []
     for lot in lots:
-        if not any(all(s in lot for s in known) for known in least_lots):
-            least_lots.append(lot)
-    return tuple(least_lots)
+        if not any(all(s in lot for s in other) for other in known):
+            known.append(lot)
+    return tuple(known)
+
+
+def sharing_lots(house, unlike):
+    """The lots that share a switch with each of those with these numbers, and have no other such one within."""
+    return _least_lots([lot for lot in all_lots(house[1]) if shares(house, lot, unlike)])
+
+
+def least_unlike(house, unlike):
+    """The lots with these numbers that have no other one within."""
+    return _least_lots([lot for lot in all_lots(house[1]) if number_of(house[1], lot) in unlike])
 
 
 def enough_lots(house, line):
     """The lots that are enough and have no other one within."""
     judge_house(house)
     judge_line(house, line)
-    unlike = _unlike(house, line)
-    return _least_lots([lot for lot in all_lots(house[1]) if _shares(house, lot, unlike)])
+    return sharing_lots(house, _unlike(house, line))
 
 
 def differences(house, line):
     """The differences that have no other one within."""
     judge_house(house)
     judge_line(house, line)
-    unlike = _unlike(house, line)
-    return _least_lots([lot for lot in all_lots(house[1]) if number_of(house[1], lot) in unlike])
+    return least_unlike(house, _unlike(house, line))
 
 
 def least_with(house, line, lot):
@@ -80,7 +92,7 @@ def least_with(house, line, lot):
     judge_house(house)
     judge_line(house, line)
     judge_lot(house, lot)
-    if not _shares(house, lot, _unlike(house, line)):
+    if not shares(house, lot, _unlike(house, line)):
         raise NotEnough("the lot of switches is not enough for the line")
     forest = Forest()
     numbers = let_numbers(house)
