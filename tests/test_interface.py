@@ -72,6 +72,22 @@ MODULES = {
     "books": {"book": "house line", "shows": "house line", "shows_where": "house one other"},
     "feeling": {"felt": "house line", "felt_by": "house line setting"},
     "askings": {"is_asking": "house line thing", "least_askings": "house line", "asking": "house line"},
+    "fences": {"is_fence": "house line most thing", "fence": "house line most"},
+    "marking": {"marks": "house lots", "tallies": "house line measure", "lots_of": "house line"},
+    "weighing": {
+        "weights": "house lots table", "is_balance": "house lots thing", "balance": "house lots table",
+        "acting": "house table"},
+    "ghosts": {
+        "told_of": "house lots chosen setting", "tells": "house lots chosen", "is_ghost": "house lots chosen thing",
+        "ghost": "house lots chosen", "fewest_chosen": "house lots costs", "foretold": "house lots chosen numbers"},
+    "keying": {
+        "is_key": "house line lot", "pair_against": "house line lot", "least_keys": "house line",
+        "key_clashes": "house line"},
+    "stepping": {
+        "is_step": "house thing", "after": "house line step", "back": "house step setting", "lost": "house line step"},
+    "intorun": {
+        "moved_in": "house line lot", "answered": "house lot names setting line", "lifted": "house lot names line"},
+    "desk": {},
 }
 LINE = plus(when("a", num(1), num(2)), num(3))
 PART = ("part", (("give", "x", YES, plus(("name", "y"), num(1))), ("keep", "z", ("is", "a"), num(2))))
@@ -82,7 +98,8 @@ VALUES = {
     "cube": (("a",), ()), "path": (1,), "expression": num(1), "move": ("double", (), "a"), "lot": ("a",), "s": "a",
     "edit": (), "told": (), "patch": ("patch", (), num(1), num(2)), "thing": (), "part": num(2), "at": 1, "fork": 1,
     "copies": (((), num(1)), (("b",), num(1)), (("a",), num(2))), "text": "show\nonly a\n1\nother\n2\nover", "most": 1,
-    "form": "needs", "row": ("need", ("a",), "b"), "parts": (PART, GIVER), "interfaces": (FACE,), "interface": FACE, "x": "x",
+    "lots": (("a",), ("b",)), "table": (0, 1, 2, 3), "measure": ("sum",), "chosen": (("a",), ("b",), ()),
+    "costs": (3, 0, 0, 1), "numbers": (1, 2, 3), "step": ("retire", "b", "on"), "names": ("c",), "form": "needs", "row": ("need", ("a",), "b"), "parts": (PART, GIVER), "interfaces": (FACE,), "interface": FACE, "x": "x",
 }
 # What a function takes by a name of VALUES that stands for something else with it.
 OTHERS = {
@@ -124,6 +141,17 @@ class TestInterface(unittest.TestCase):
             told = function(*values)
             self.assertEqual(function(**dict(zip(parameters, values))), told, function)
             self.assertEqual(function(*copy.deepcopy(values)), told, function)
+
+    def test_desk(self):
+        desk = importlib.import_module("manybuilds.desk").Desk
+        self.assertEqual(desk.__module__, "manybuilds.desk")
+        self.assertEqual(list(inspect.signature(desk).parameters), ["text"])
+        self.assertEqual(list(inspect.signature(desk("switches a\nrule yes\n1").say).parameters), ["line"])
+        self.assertIn("say", vars(desk))
+
+    def test_all_modules_are_here(self):
+        for name in MODULES:
+            self.assertTrue((FOLDER / f"{name}.py").is_file(), name)
 
     def test_kept_is_a_tuple(self):
         words = importlib.import_module("manybuilds.words")
