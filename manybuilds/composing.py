@@ -63,12 +63,12 @@ class Joint:
             wrong |= mask
         return self.let & ~wrong
 
-    def seam(self):
+    def shown(self):
         """What the parts show when they are put together."""
         seam = Seam(self.bad)
-        for name, mask in self.gives.items():
+        for name, mask in list(self.gives.items()):
             put_mask(seam.gives, name, mask & ~self.bad)
-        for name, mask in self.needs.items():
+        for name, mask in list(self.needs.items()):
             put_mask(seam.needs, name, mask & ~self.bad)
         for name, given in seam.gives.items():
             known = self.leaning.reached([(name, given)])
@@ -82,7 +82,7 @@ class Joint:
         ends = {NUMBER: self.let & ~self.bad, TRUTH: self.let & ~self.bad}
         ends.update({(GIVE, name): mask for name, mask in seam.gives.items()})
         ends.update({(NEED, name): mask for name, mask in seam.needs.items()})
-        terms = seam.terms()
+        terms = seam.all_terms()
         for at, term in enumerate(terms):
             known = self.kinds.reached([(_node(term), ends[term])])
             for other in terms[at + 1:]:
@@ -104,7 +104,7 @@ def right_by(house, interfaces):
 def put_together(house, interfaces):
     """The interface of parts with these interfaces that are put together."""
     judge_house(house)
-    return Joint(house, _judged_seams(house, interfaces)).seam().told(house[1])
+    return Joint(house, _judged_seams(house, interfaces)).shown().as_interface(house[1])
 
 
 def _mixed_names(house, parts):

@@ -34,7 +34,7 @@ def _ends(linkage, seam, term):
 
 def _put_joins(linkage, seam):
     """Put in which terms are joined."""
-    terms = seam.terms()
+    terms = seam.all_terms()
     for at, term in enumerate(terms):
         known = linkage.kinds.reached(_ends(linkage, seam, term))
         for other in terms[at + 1:]:
@@ -48,7 +48,7 @@ def seam_with(house, part):
     seam = Seam(wrong_mask(linkage))
     for name, places in linkage.givers.items():
         put_mask(seam.gives, name, linkage.standing(places) & ~seam.bad)
-    for (_, name), mask in linkage.needs.items():
+    for (_, name), mask in list(linkage.needs.items()):
         put_mask(seam.needs, name, mask & ~seam.bad)
     for name in list(seam.gives):
         _put_leans(linkage, seam, name)
@@ -60,7 +60,7 @@ def interface(house, part):
     """The interface of the part."""
     judge_house(house)
     judge_part(house, part)
-    return seam_with(house, part).told(house[1])
+    return seam_with(house, part).as_interface(house[1])
 
 
 def _standing(house, seam, term):
@@ -75,7 +75,7 @@ def _is_closed(house, seam):
     net = Net()
     for (one, other), mask in seam.joins.items():
         net.tie(one, other, mask)
-    terms = seam.terms()
+    terms = seam.all_terms()
     for at, term in enumerate(terms):
         known = net.reached([(term, _standing(house, seam, term))])
         for other in terms[at + 1:]:
@@ -165,7 +165,7 @@ def _kept_lines(seam):
     """Lines, each with the settings in which it must stand, that need names, join terms and are wrong."""
     lines = [(("plus", TRUE, ZERO), seam.bad)]
     lines.extend([(("name", name), seam.needs[name]) for name in sorted(seam.needs)])
-    terms = seam.terms()
+    terms = seam.all_terms()
     for at, term in enumerate(terms):
         left = -1
         for other in terms[:at]:

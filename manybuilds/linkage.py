@@ -11,7 +11,6 @@ class LinkedRow:
 
     def __init__(self, part, row, mask, web):
         self.part = part
-        self.name = row[1]
         self.line = row[3]
         self.mask = mask
         self.web = web

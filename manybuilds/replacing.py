@@ -70,7 +70,7 @@ class Company:
                 return ZERO if kind == NUMBER else TRUE
         return TRUE if self._is_joined(TRUTH, term) else ZERO
 
-    def part(self):
+    def whole(self):
         """The part: it gives what is needed, and has the further lines and reads that were put in."""
         rows = [(GIVE, name, YES, line) for name, line in self.lines.items()]
         names = fresh_names(list(self.lines) + list(self.seam.gives), len(self.reads))
@@ -102,7 +102,7 @@ def _teller(seam, number, tag, key):
         company.lines.setdefault(key, ZERO)
     elif tag == "ring":
         company.lines[key[1]] = ("then", ("name", key[0]), company.lines[key[1]])
-    return company.part()
+    return company.whole()
 
 
 def telling(house, one, other):

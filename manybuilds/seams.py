@@ -20,7 +20,7 @@ class Seam:
         self.leans = {}
         self.joins = {}
 
-    def terms(self):
+    def all_terms(self):
         """All terms, in their order."""
         given = [(GIVE, name) for name in sorted(self.gives)]
         return [NUMBER, TRUTH] + given + [(NEED, name) for name in sorted(self.needs)]
@@ -29,12 +29,12 @@ class Seam:
         """The settings in which the two terms are joined, whichever is ahead."""
         return self.joins.get((one, other), 0) | self.joins.get((other, one), 0)
 
-    def told(self, switches):
+    def as_interface(self, switches):
         """The interface."""
         gives = [(name, self.gives[name]) for name in sorted(self.gives)]
         needs = [(name, self.needs[name]) for name in sorted(self.needs)]
         leans = [pair + (self.leans[pair],) for pair in sorted(self.leans)]
-        terms = self.terms()
+        terms = self.all_terms()
         joins = []
         for at, term in enumerate(terms):
             joins.extend([(term, other, self.joins.get((term, other), 0)) for other in terms[at + 1:]])
@@ -88,7 +88,7 @@ def _has_form(seam):
         return False
     if not all(one in seam.gives and other in seam.needs for one, other in seam.leans):
         return False
-    ranks = {term: rank for rank, term in enumerate(seam.terms())}
+    ranks = {term: rank for rank, term in enumerate(seam.all_terms())}
     if not all(one in ranks and other in ranks for one, other in seam.joins):
         return False
     if not all(ranks[one] < ranks[other] for one, other in seam.joins):

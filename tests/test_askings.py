@@ -164,6 +164,16 @@ class TestIsAsking(unittest.TestCase):
             for events, end in (((wrong,), number), ((number,), wrong), ([number], number), ((number, number), number)):
                 self.assertIs(is_asking(AB, line, ("tells", (events, ("ends", end)))), False)
 
+    def test_trees_of_one_result(self):
+        line = show(TRUE)
+        told = ("tells", (("yes",), ("ends", "yes")))
+        self.assertIs(is_asking(AB, line, told), True)
+        for wrong in ((), ("tells",), told + ((),), told + told, ("tell",) + told[1:], ("ask",) + told[1:], (told,), (None,) + told[1:],
+                      ("tells", (("yes",), ("ends", "no"))), ("tells", (("no",), ("ends", "yes"))), ("tells", (("yes",), ("stuck",))),
+                      ("tells", (("yes", "yes"), ("ends", "yes"))), ("tells", ((), ("ends", "yes"))), ("tells", None), ("tells", ()),
+                      ("ends",) + told[1:], ("tells", (("yes",), ("ends", "yes"), ())), ("tells", (("yes",),))):
+            self.assertIs(is_asking(AB, line, wrong), False, wrong)
+
     def test_more_than_need_be_is_still_a_tree(self):
         told = ("tells", ((), ("ends", 3)))
         for tree in (told, ("ask", "a", told, told), ("ask", "b", told, ("ask", "a", told, told))):

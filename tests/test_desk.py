@@ -362,7 +362,8 @@ class TestWhat(unittest.TestCase):
     def test_no_settings_and_no_names(self):
         for line in ("words a+", "words +a", "words +", "words a++b", "words --", "words -+a", "words if", "words A", "words a,b", "words a b",
                      "words abcdefghi", "words 1", "run a+", "run if+a", "run", "run a b", "fate if", "fate A", "fate -", "fate a+b", "fate 1",
-                     "fate abcdefghi", "page a", "line 1"):
+                     "fate abcdefghi", "page a", "line 1", "fate a on", "words a on",
+                     "retires a on", "a b on", "1 a off", "retire a on on"):
             self.assertEqual(told(SHOWING, line), ["what"], line)
 
 

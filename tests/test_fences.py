@@ -150,6 +150,18 @@ class TestIsFence(unittest.TestCase):
                 right += expected
         self.assertEqual(right, 9)
 
+    def test_of_one_side_alone(self):
+        house = ("house", ("a", "b", "c"), ("yes",))
+        line = plus(when("a", num(1), num(0)), plus(when("b", num(1), num(0)), when("c", num(1), num(0))))
+        lots = [lot for size in range(3) for lot in itertools.combinations("abc", size)]
+        for cubes in ([((), lot) for lot in lots], [(lot, ()) for lot in lots]):
+            self.assertIs(is_fence(house, line, 2, tuple(cubes)), True)
+            for at in range(len(cubes)):
+                self.assertIs(is_fence(house, line, 2, tuple(cubes[:at] + cubes[at + 1:])), False)
+        mixed = [ALL, (("a",), ()), ((), ("b",)), ((), ("c",)), (("a",), ("b",)), (("a",), ("c",)), ((), ("b", "c"))]
+        self.assertIs(is_fence(house, line, 2, tuple(mixed)), True)
+        self.assertIs(is_fence(house, line, 2, tuple(mixed[:-1])), False)
+
     def test_against_slow(self):
         seen = {True: 0, False: 0}
         for house, line, dice in lines(753, 4):

@@ -182,7 +182,9 @@ class TestIsInterface(unittest.TestCase):
         for wrong in STRANGE + tuple(spoiled(TOLD)) + (
                 TOLD[:5], TOLD + ((),), ("part",) + TOLD[1:], EXAMPLE, face(gives=((YES,),)), face(gives=(("x", YES, YES),)),
                 face(needs=(("x",),)), face(joins=((("give", "x", "y"), NEED_Y, YES),)), face(gives=((("x",), YES),)),
-                face(joins=((None, None, YES),)), face(leans=((GIVE_X, NEED_Y, YES),))):
+                face(joins=((None, None, YES),)), face(leans=((GIVE_X, NEED_Y, YES),)), face(needs=(("x", "y", YES),)),
+                face(needs=((YES,),)), face(leans=(("x", YES),)), face(leans=(("x", "y", "z", YES),)), face(joins=(("number", YES),)),
+                face(needs=(("y", YES),), joins=(("number", NEED_Y, NEED_Y, YES),)), ()):
             self.assertIs(is_interface(ONE, wrong), False, wrong)
 
     def test_conditions_are_plain_ones_of_let_settings(self):
@@ -199,6 +201,9 @@ class TestIsInterface(unittest.TestCase):
     def test_names_and_orders(self):
         for names in (("x", "if"), ("x", "X"), ("x", "abcdefghi"), ("y", "x"), ("x", "x"), ("x", "")):
             self.assertIs(is_interface(ONE, face(needs=tuple((name, YES) for name in names))), False)
+        for name in ("if", "yes", "X", "abcdefghi", "", "a b", "a1", "a:"):
+            self.assertIs(is_interface(ONE, face(needs=((name, YES),))), False, name)
+            self.assertIs(is_interface(ONE, face(((name, YES),), joins=(("number", ("give", name), YES),))), False, name)
         self.assertIs(is_interface(ONE, face(needs=(("x", YES), ("y", YES)))), True)
         joins = (("number", NEED_X, YES), ("truth", NEED_Y, YES))
         self.assertIs(is_interface(ONE, face(needs=(("x", YES), ("y", YES)), joins=joins)), True)

@@ -169,6 +169,14 @@ class TestLifted(unittest.TestCase):
         self.assertEqual(lifted(AB, ("b",), ("c",), line),
                          when("a", ("if", when("b", TRUE, FALSE), num(1), num(2)), line[3]))
 
+    def test_names_that_are_switches(self):
+        # Choices of a switch that is called like a name are none of its mentions.
+        line = plus(when("a", num(1), num(2)), asks("a", when("b", num(3), num(4)), num(5)))
+        self.assertEqual(lifted(AB, ("b",), ("a",), line), plus(line[1], when("b", when("b", num(3), num(4)), num(5))))
+        line = ("if", when("a", TRUE, FALSE), num(1), num(2))
+        self.assertEqual(lifted(AB, ("a", "b"), ("b", "a"), line), line)
+        self.assertEqual(lifted(AB, ("a",), ("a",), asks("a", num(1), num(2))), when("a", num(1), num(2)))
+
     def assert_caught(self, line, path):
         with self.assertRaises(Caught) as caught:
             lifted(AB, ("a", "b"), ("c", "d"), line)

@@ -89,7 +89,7 @@ class TestTallies(unittest.TestCase):
     def test_wrong_values(self):
         for bad in STRANGE + (
                 ("shown", 1), ("sum", "yes"), ("times",), ("times", -1), ("times", True), ("times", False), ("times", "maybe"),
-                ("times", None), ("times", 1, 1), ("time", 1), ["sum"], ("times", (1,)), ("times", [])) + tuple(spoiled(("sum",))):
+                ("times", None), ("times", 1, 1), ("time", 1), ["sum"], (), ("sum", "sum"), ("times", (1,)), ("times", [])) + tuple(spoiled(("sum",))):
             assert_judged(self, tallies, [OR, LINE, ("sum",)], (0, None, BadHouse), (1, LINE[:2], BadLine), (2, bad, BadMeasure))
 
 

@@ -151,7 +151,14 @@ class TestTelling(unittest.TestCase):
                 (one, part(give("x", num(1)), keep("k", plus(TRUE, num(1))))), (loose, part(give("x", Y))),
                 (part(give("x", num(1)), give("y", TRUE)), part(give("x", num(1)), give("y", num(2)))),
                 (part(keep("k", X), keep("l", ("if", Y, X, X))), part(keep("k", ("if", Y, plus(X, num(1)), num(1))))),
-                (part(keep("k", Y), keep("l", X)), part(give("y", num(1)), keep("l", X)))):
+                (part(keep("k", Y), keep("l", X)), part(give("y", num(1)), keep("l", X))),
+                # Two names are tied, of which one must be a truth, or the other one a number.
+                (part(keep("k", ("if", X, num(1), num(1))), keep("l", Y)), part(keep("k", ("if", TRUE, X, Y)))),
+                (part(keep("k", X), keep("l", plus(Y, num(1)))), part(keep("k", ("if", TRUE, X, Y)))),
+                (part(keep("k", ("if", Y, num(1), num(1))), keep("l", X)), part(keep("k", ("if", TRUE, X, Y)))),
+                (part(keep("k", Y), keep("l", plus(X, num(1)))), part(keep("k", ("if", TRUE, X, Y)))),
+                (part(keep("k", ("if", X, num(1), num(1))), keep("l", plus(Y, num(1)))), part(keep("k", ("if", TRUE, X, Y)))),
+                (part(give("x", TRUE), keep("l", Y)), part(give("x", W), keep("k", ("if", TRUE, X, Y)), keep("w", TRUE)))):
             self.assert_tells(ONE, first, second)
             self.assert_tells(ONE, second, first)
 
