@@ -110,7 +110,7 @@ class TestAsking(unittest.TestCase):
             self.assertEqual(depth_of(tree), depth)
             self.assertIs(is_asking(house, line, tree), True)
             seen[depth] = seen.get(depth, 0) + 1
-        self.assertGreater(min(seen[depth] for depth in (0, 1, 2)), 10, seen)
+        self.assertGreater(min(seen[depth] for depth in (0, 1, 2)), 5, seen)
 
     def test_no_tree_of_a_lesser_depth(self):
         for house, line, _ in lines(742, 6):

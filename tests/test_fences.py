@@ -98,7 +98,7 @@ class TestFence(unittest.TestCase):
                 if told is not None:
                     found += 1
                     self.assertIs(is_fence(house, line, most, told), True)
-        self.assertGreater(found, 60)
+        self.assertGreater(found, 40)
 
     def test_either_a_tree_or_a_fence(self):
         for house, line, _ in lines(752, 8):

@@ -285,7 +285,7 @@ class TestForetold(unittest.TestCase):
                 told = None
             self.assertEqual(foretold(house, lots, chosen, numbers), told)
             seen["none" if told is None else "told"] += 1
-        self.assertGreater(min(seen.values()), 20, seen)
+        self.assertGreater(min(seen.values()), 10, seen)
 
     def test_wrong_values(self):
         chosen = (("b",), ("a",), ("a", "b"))

@@ -75,9 +75,12 @@ class TestMayReplace(unittest.TestCase):
         dice = dice_of(631)
         house = ("house", ("a",), ("is", "a"))
         found = {A: 0, NO: 0}
-        for _ in range(16):
+        for _ in range(24):
             pair = [random_part(dice, house, 3, ("k",), ("x", "y"), size=4) for _ in range(2)]
             one, other = [("part", tuple(row[:2] + (YES,) + row[3:] for row in each[1])) for each in pair]
+            if any("k" in dict(interface(house, each)[3]) for each in (one, other)):
+                # No part over these names gives it.
+                continue
             may = may_replace(house, one, other)
             found[may] += 1
             tellers = [each for each in SMALL_PARTS if right_where(house, (one, each)) != NO

@@ -165,7 +165,7 @@ class TestBalance(unittest.TestCase):
                 self.assertIs(is_balance(house, lots, told), True)
                 self.assertNotEqual(sum(one * other for one, other in zip(told, table)), 0)
                 self.assertEqual(math.gcd(*told), 1)
-        self.assertGreater(found, 50)
+        self.assertGreater(found, 30)
 
     def test_no_balance_is_unlike_0_with_a_table_within(self):
         for house, lots, table, dice in tables(814, 3, 3):
