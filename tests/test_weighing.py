@@ -104,7 +104,7 @@ class TestWeights(unittest.TestCase):
                     self.assertEqual(sum(one * fraction_of(pair) for one, pair in zip(row, found)), number)
                 for above, below in found:
                     self.assertTrue(below >= 1 and math.gcd(above, below) == 1)
-        self.assertGreater(min(seen.values()), 50, seen)
+        self.assertGreater(min(seen.values()), 30, seen)
 
     def test_weights_in_halves(self):
         """A table that no whole weights sum up to: each two of three switches are on, or none."""
